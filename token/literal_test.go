@@ -10,6 +10,7 @@ import (
 	"unicode/utf8"
 
 	"scholiast/api"
+	"scholiast/probe"
 	"scholiast/token"
 )
 
@@ -202,7 +203,7 @@ func TestEscapes(t *testing.T) {
 
 // TestLiteralsAll: P2.6 to P2.8, all short texts of the bytes that count in literals.
 func TestLiteralsAll(t *testing.T) {
-	every("\\\"'`\n\rx4d0U", 5, func(s string) {
+	probe.Every("\\\"'`\n\rx4d0U", 5, func(s string) {
 		expectUnquote(t, s)
 		expectUnquote(t, `"`+s)
 		expectUnquote(t, "`"+s)

@@ -5,6 +5,7 @@ import (
 	"strings"
 	"testing"
 
+	"scholiast/probe"
 	"scholiast/token"
 )
 
@@ -42,7 +43,7 @@ func TestDigits(t *testing.T) {
 
 // TestDigitsAll: P2.5, at all texts of up to five bytes of numbers, held against the library.
 func TestDigitsAll(t *testing.T) {
-	every("01789afFgxXbBoO_", 5, func(s string) {
+	probe.Every("01789afFgxXbBoO_", 5, func(s string) {
 		want, err := strconv.ParseUint(s, 0, 64)
 		base, digits, ok := token.Digits(s)
 		if ok != (err == nil) {

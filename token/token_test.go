@@ -7,6 +7,7 @@ import (
 	"testing"
 
 	"scholiast/api"
+	"scholiast/probe"
 	"scholiast/token"
 )
 
@@ -132,27 +133,12 @@ func TestOperator(t *testing.T) {
 
 // TestOperatorAll: P2.2, at all texts of up to four of the signs' bytes.
 func TestOperatorAll(t *testing.T) {
-	every(";+-*/%&|^<>=!~([{,.)]}:x", 4, func(s string) {
+	probe.Every(";+-*/%&|^<>=!~([{,.)]}:x", 4, func(s string) {
 		wantKind, wantWidth := longest(s)
 		if kind, width := token.Operator(s); kind != wantKind || width != wantWidth {
 			t.Fatalf("Operator(%q): %d, %d, want %d, %d", s, kind, width, wantKind, wantWidth)
 		}
 	})
-}
-
-// every calls f with each text of up to n bytes of an alphabet.
-func every(alphabet string, n int, f func(string)) {
-	var from func(s []byte)
-	from = func(s []byte) {
-		f(string(s))
-		if len(s) == n {
-			return
-		}
-		for i := range len(alphabet) {
-			from(append(s, alphabet[i]))
-		}
-	}
-	from(make([]byte, 0, n))
 }
 
 // expectKinds holds a yes-or-no answer against the kinds of which it is yes.
