@@ -8,6 +8,7 @@ import (
 
 	"scholiast/api"
 	"scholiast/expr"
+	"scholiast/probe"
 )
 
 // tall is a node and its height.
@@ -33,23 +34,18 @@ func newModel(l []api.Tok) *model {
 	return m
 }
 
-// significant are the tokens of l that are no trivia.
-func significant(l []api.Tok) []api.Tok {
-	return slices.DeleteFunc(slices.Clone(l), func(t api.Tok) bool { return isTrivia(t.Kind) })
-}
-
 func (m *model) here() int {
-	if l := significant(m.taken); len(l) > 0 {
+	if l := probe.Significant(m.taken); len(l) > 0 {
 		return l[len(l)-1].To
 	}
-	if l := significant(m.left); len(l) > 0 {
+	if l := probe.Significant(m.left); len(l) > 0 {
 		return l[0].From
 	}
 	return m.first
 }
 
 func (m *model) ahead(n int) int {
-	if l := significant(m.left); m.wrong == nil && 0 <= n && n < len(l) {
+	if l := probe.Significant(m.left); m.wrong == nil && 0 <= n && n < len(l) {
 		return l[n].Kind
 	}
 	return 0
@@ -66,7 +62,7 @@ func (m *model) read(n int) {
 
 func (m *model) take() {
 	if m.ahead(0) != 0 {
-		m.read(1 + slices.IndexFunc(m.left, func(t api.Tok) bool { return !isTrivia(t.Kind) }))
+		m.read(1 + slices.IndexFunc(m.left, func(t api.Tok) bool { return !probe.IsTrivia(t.Kind) }))
 	}
 }
 
@@ -106,7 +102,7 @@ func (m *model) close(mark, kind int) {
 		return
 	}
 	mark = m.mark(mark)
-	for mark < len(m.row) && isTrivia(m.row[mark].n.Kind) {
+	for mark < len(m.row) && probe.IsTrivia(m.row[mark].n.Kind) {
 		mark++
 	}
 	kids := m.row[mark:]
@@ -131,12 +127,12 @@ func (m *model) gap(mark int) {
 	mark = m.mark(mark)
 	at := m.here()
 	for _, b := range slices.Backward(m.row[mark:]) {
-		if !isTrivia(b.n.Kind) {
+		if !probe.IsTrivia(b.n.Kind) {
 			at = b.n.From
 		}
 	}
 	for _, b := range m.row[:mark] {
-		if !isTrivia(b.n.Kind) {
+		if !probe.IsTrivia(b.n.Kind) {
 			at = b.n.To
 		}
 	}
@@ -171,7 +167,7 @@ func (m *model) fail(code int) {
 		return
 	}
 	m.wrong = &api.Diag{Code: code, From: m.here(), To: m.here()}
-	if l := significant(m.left); len(l) > 0 {
+	if l := probe.Significant(m.left); len(l) > 0 {
 		m.wrong.From, m.wrong.To = l[0].From, l[0].To
 	}
 }
@@ -265,18 +261,10 @@ func (p *pair) do(call string, n, kind int) {
 	case "Done":
 		row, d, ok := p.r.Done()
 		wantRow, want, wantOK := p.m.done()
-		p.is(slices.EqualFunc(row, wantRow, same) && d == want && ok == wantOK, call)
-		spoil(row)
+		p.is(slices.EqualFunc(row, wantRow, probe.Same) && d == want && ok == wantOK, call)
+		probe.Spoil(row)
 	}
 	p.hold()
-}
-
-// spoil writes over nodes, their kids, and the spare room of both.
-func spoil(l []api.Node) {
-	for i, n := range l[:cap(l)] {
-		spoil(n.Kids)
-		l[:cap(l)][i] = api.Node{Kind: -7, From: -7, To: -7}
-	}
 }
 
 // someKinds are kinds of tokens and of nodes, and numbers that are none.
@@ -369,13 +357,13 @@ func TestGap(t *testing.T) {
 	for _, c := range []struct {
 		mark, index, at int
 	}{{-1, 0, 1}, {0, 0, 1}, {1, 1, 1}, {2, 2, 2}, {3, 3, 2}, {4, 4, 4}, {5, 4, 4}} {
-		r := expr.NewReader(tokens(" a b"))
+		r := expr.NewReader(probe.Tokens(" a b"))
 		r.Name()
 		r.Take()
 		r.Gap(c.mark)
 		row, _, _ := r.Done()
 		want := api.Node{Kind: api.NNone, From: c.at, To: c.at}
-		if len(row) != 5 || !same(row[c.index], want) {
+		if len(row) != 5 || !probe.Same(row[c.index], want) {
 			t.Errorf("Gap(%d): %v, want %v at %d", c.mark, row, want, c.index)
 		}
 	}
@@ -385,7 +373,7 @@ func TestGap(t *testing.T) {
 func TestHeights(t *testing.T) {
 	for _, kind := range []int{api.NName, api.NNone, api.TIdent, 0} {
 		for _, start := range []string{"Take", "None", ""} {
-			p := newPair(t, tokens(" a b"))
+			p := newPair(t, probe.Tokens(" a b"))
 			if start != "" {
 				p.do(start, 0, 0)
 			}
@@ -407,7 +395,7 @@ func TestHeights(t *testing.T) {
 
 // TestLevels: P5.4, MaxDepth levels, and one more; Up at none.
 func TestLevels(t *testing.T) {
-	p := newPair(t, tokens("a b"))
+	p := newPair(t, probe.Tokens("a b"))
 	p.do("Up", 0, 0)
 	for range api.MaxDepth {
 		p.do("Down", 0, 0)
@@ -428,7 +416,7 @@ func TestLevels(t *testing.T) {
 
 // TestMemory: R3, what a reader was given is neither changed nor kept, nor what lies behind it; two readers have nothing in common.
 func TestMemory(t *testing.T) {
-	l := tokens("f(a, func(b, c d) { e }) [1")
+	l := probe.Tokens("f(a, func(b, c d) { e }) [1")
 	short := len(l) - 2
 	given := slices.Clone(l)
 	want, _, _ := expr.Parse(slices.Clone(l[:short]))
@@ -439,36 +427,19 @@ func TestMemory(t *testing.T) {
 	}
 	two.X(false)
 	first, _, _ := one.Done()
-	spoil(first)
+	probe.Spoil(first)
 	for _, r := range []*expr.Reader{one, two} {
-		if row, d, ok := r.Done(); !ok || len(row) != 2 || !same(row[0], want) {
+		if row, d, ok := r.Done(); !ok || len(row) != 2 || !probe.Same(row[0], want) {
 			t.Errorf("%v, %v", row, d)
 		}
 	}
-	if row, _, _ := two.Done(); shares(row) {
+	if row, _, _ := two.Done(); probe.Shares(row) {
 		t.Error("lists of one answer share memory")
 	}
 	copy(l, given)
 	n, _, _ := expr.Parse(l[:short])
-	spoil([]api.Node{n})
+	probe.Spoil([]api.Node{n})
 	if !slices.Equal(l, given) {
 		t.Errorf("the tokens have become %v", l)
 	}
-}
-
-// shares says whether lists of nodes share memory, with their spare room.
-func shares(l []api.Node) bool {
-	met := map[*api.Node]bool{}
-	var walk func(l []api.Node) bool
-	walk = func(l []api.Node) bool {
-		for i := range l[:cap(l)] {
-			n := &l[:cap(l)][i]
-			if met[n] {
-				return true
-			}
-			met[n] = true
-		}
-		return slices.ContainsFunc(l, func(n api.Node) bool { return walk(n.Kids) })
-	}
-	return walk(l)
 }
