@@ -13,6 +13,7 @@ type Grower struct {
 	R       Choice
 	Blocks  bool // the bodies of literals are blocks; else any tokens
 	Guarded bool // guards stand where no switch asks, too
+	Bare    bool // loops stand often, and without a semicolon behind them, too: such a one may be taken for one that goes through something, by a range behind it
 }
 
 func node(kind int, kids ...api.Node) api.Node { return api.Node{Kind: kind, Kids: kids} }

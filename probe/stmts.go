@@ -4,29 +4,29 @@ import "scholiast/api"
 
 // Block is statements in braces.
 func (g Grower) Block(deep int) api.Node {
-	return node(api.NBlock, wrap(api.TLbrace, g.statements(deep, false), api.TRbrace)...)
+	return node(api.NBlock, wrap(api.TLbrace, g.statements(deep), api.TRbrace)...)
 }
 
 // statements are some statements with semicolons between, and behind the last one at times.
-func (g Grower) statements(deep int, inClause bool) []api.Node {
+func (g Grower) statements(deep int) []api.Node {
 	var l []api.Node
 	for range g.pick(0, 1, 1, 2, 3) {
 		n := g.Statement(deep)
 		l = append(l, n, leaf(g.pick(semicolons()...)))
 	}
-	if len(l) > 0 && g.maybe(2) && endsBare(l[len(l)-2], inClause) {
+	if len(l) > 0 && g.maybe(2) && g.endsBare(l[len(l)-2]) {
 		l = l[:len(l)-1]
 	}
 	return l
 }
 
-// endsBare says whether a statement may stand without a semicolon behind it. A loop without one is read as one of what stands in the next clause.
-func endsBare(n api.Node, inClause bool) bool {
+// endsBare says whether a statement may stand without a semicolon behind it.
+func (g Grower) endsBare(n api.Node) bool {
 	switch n.Kind {
 	case api.NEmpty:
 		return false
 	case api.NFor, api.NLabel:
-		return !inClause
+		return g.Bare
 	case api.NConst:
 		spec := n.Kids[len(n.Kids)-1]
 		return spec.Kind != api.NSpec || spec.Kids[len(spec.Kids)-1].Kind != api.NNone
@@ -36,6 +36,10 @@ func endsBare(n api.Node, inClause bool) bool {
 
 // Statement is one of any kind.
 func (g Grower) Statement(deep int) api.Node {
+	if g.Bare && deep > 0 && !g.maybe(4) {
+		one := []func(deep int) api.Node{g.Block, g.branch, g.loop, g.ranged}[g.R.Intn(4)]
+		return one(deep - 1)
+	}
 	if deep > 0 {
 		switch g.R.Intn(12) {
 		case 0:
@@ -203,7 +207,7 @@ func (g Grower) clauses(deep int) []api.Node {
 		if !g.maybe(3) {
 			clause = []api.Node{leaf(api.TCase), g.List(deep, false), leaf(api.TColon)}
 		}
-		l = append(l, node(api.NCase, append(clause, g.statements(deep, true)...)...))
+		l = append(l, node(api.NCase, append(clause, g.statements(deep)...)...))
 	}
 	return l
 }

@@ -221,38 +221,47 @@ func TestMemory(t *testing.T) {
 	}
 }
 
-// TestFilled: P6.9 to P6.11, trees of all kinds of nodes with literals in them: Fill of what a reader reads is the tree, or tells the first guard that is amiss.
+// TestFilled: P6.9 to P6.11, trees of all kinds of nodes with literals in them: Fill of what a reader reads is the tree, or tells the first guard that is amiss; or it fails where a loop is taken for one that goes through something.
 func TestFilled(t *testing.T) {
 	r := rand.New(rand.NewSource(9))
 	met := map[int]int{}
-	astray := 0
+	astray, wrong := 0, 0
 	for range 20000 {
-		n := probe.Grower{R: r, Blocks: true, Guarded: r.Intn(3) == 0}.Block(1 + r.Intn(4))
+		n := probe.Grower{R: r, Blocks: true, Guarded: r.Intn(3) == 0, Bare: r.Intn(2) == 0}.Block(1 + r.Intn(4))
 		row, l := planted(r, n)
 		want := row[slices.IndexFunc(row, func(n api.Node) bool { return n.Kind == api.NBlock })]
 		got, d, ok := stmt.Parse(l)
 		if d.Code == api.DDepth {
 			continue
 		}
-		filled, same, fits := stmt.Fill(probe.Flat(want))
-		if !probe.Same(filled, got) || same != d || fits != ok {
-			t.Fatalf("%v: Fill says %v, %v, %v, and Parse %v, %v, %v", l, filled, same, fits, got, d, ok)
-		}
-		if guard, is := firstStray(want); is {
-			astray++
-			if d != (api.Diag{Code: api.DSyntax, From: guard.From, To: guard.To}) || ok || !probe.Same(got, api.Node{}) {
-				t.Fatalf("%v: %v, %v, want %v", l, d, ok, guard)
+		flat := probe.Flat(want)
+		if _, is := misled(flat); !is {
+			filled, same, fits := stmt.Fill(flat)
+			if !probe.Same(filled, got) || same != d || fits != ok {
+				t.Fatalf("%v: Fill says %v, %v, %v, and Parse %v, %v, %v", l, filled, same, fits, got, d, ok)
 			}
-			continue
 		}
-		if !ok || !probe.Same(got, want) || d != (api.Diag{}) {
-			t.Fatalf("%v: %v, %v, want %v", l, got, d, want)
+		fault, amiss := firstStray(want)
+		if amiss {
+			astray++
 		}
-		probe.Count(n, met)
+		if tok, is := firstMisled(want); is {
+			wrong++
+			fault, amiss = leaf(tok.Kind, tok.From, tok.To), true
+		}
+		if amiss {
+			want = api.Node{}
+		}
+		if ok == amiss || !probe.Same(got, want) || amiss && d != (api.Diag{Code: api.DSyntax, From: fault.From, To: fault.To}) || !amiss && d != (api.Diag{}) {
+			t.Fatalf("%v: %v, %v, want %v, %v", l, got, d, want, fault)
+		}
+		if !amiss {
+			probe.Count(n, met)
+		}
 	}
 	expectMet(t, met)
-	if met[api.NFn] < 1000 || astray < 1000 {
-		t.Errorf("%d literals and %d guards that are amiss were tried", met[api.NFn], astray)
+	if met[api.NFn] < 1000 || astray < 1000 || wrong < 50 {
+		t.Errorf("%d literals, %d guards that are amiss and %d loops that are taken for others were tried", met[api.NFn], astray, wrong)
 	}
 }
 
@@ -282,7 +291,7 @@ func TestSpoiled(t *testing.T) {
 	held, failed := 0, 0
 	for range 40000 {
 		p := &probe.Planter{R: r}
-		p.Plant(probe.Grower{R: r, Blocks: true, Guarded: r.Intn(5) == 0}.Block(r.Intn(4)))
+		p.Plant(probe.Grower{R: r, Blocks: true, Guarded: r.Intn(5) == 0, Bare: true}.Block(r.Intn(4)))
 		moved := probe.Spoilt(r, p.L)
 		l := apart(moved)
 		n, d, ok := stmt.Parse(l)

@@ -63,24 +63,35 @@ func expectMet(t *testing.T, met map[int]int) {
 	}
 }
 
-// TestGrown: P6.1 to P6.8, trees of all kinds of nodes, their tokens with trivia between: what is read is the tree.
+// TestGrown: P6.1 to P6.8, trees of all kinds of nodes, their tokens with trivia between: what is read is the tree; or it fails where a loop is taken for one that goes through something, as what stands behind it has the words say so.
 func TestGrown(t *testing.T) {
 	r := rand.New(rand.NewSource(8))
 	met := map[int]int{}
+	wrong := 0
 	for range 30000 {
-		c := part(probe.Grower{R: r, Blocks: true, Guarded: true}, r.Intn(5))
+		c := part(probe.Grower{R: r, Blocks: true, Guarded: true, Bare: r.Intn(2) == 0}, r.Intn(5))
 		row, l := planted(r, c.n)
-		want := probe.Flat(api.Node{Kids: row}).Kids
+		flat := probe.Flat(api.Node{Kind: api.NRegion, Kids: row})
 		reader := expr.NewReader(l)
 		c.read(reader)
 		got, d, ok := reader.Done()
 		if d.Code == api.DDepth {
 			continue
 		}
-		if !ok || !slices.EqualFunc(got, want, probe.Same) || d != (api.Diag{}) {
-			t.Fatalf("%v: %v, %v, want %v", l, got, d, want)
+		if tok, is := misled(flat); is {
+			wrong++
+			if ok || len(got) > 0 || d != syntaxAt(tok) {
+				t.Fatalf("%v: %v, %v, want %v", l, got, d, tok)
+			}
+			continue
+		}
+		if !ok || !slices.EqualFunc(got, flat.Kids, probe.Same) || d != (api.Diag{}) {
+			t.Fatalf("%v: %v, %v, want %v", l, got, d, flat.Kids)
 		}
 		probe.Count(c.n, met)
 	}
 	expectMet(t, met)
+	if wrong < 50 {
+		t.Errorf("%d with a loop that is taken for another were tried", wrong)
+	}
 }

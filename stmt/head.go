@@ -129,7 +129,7 @@ func guard(r *expr.Reader) {
 	}
 }
 
-// outside says whether tokens of these kinds come, one behind the other, within no brackets, ahead of the first semicolon that stands within none.
+// outside says whether tokens of these kinds come, one behind the other, at depth 0, ahead of the first semicolon at depth 0. The count of brackets is a plain one: behind what closes one from ahead of all this it is below 0, where no token counts, and it may come back to 0.
 func outside(r *expr.Reader, kinds ...int) bool {
 	depth := 0
 looking:
@@ -141,10 +141,6 @@ looking:
 		case api.TLparen, api.TLbrack, api.TLbrace:
 			depth++
 		case api.TRparen, api.TRbrack, api.TRbrace:
-			// What closes something from ahead of all this ends the statement, too.
-			if depth == 0 {
-				break looking
-			}
 			depth--
 		case api.TSemi, api.TAuto:
 			if depth == 0 {
