@@ -48,9 +48,7 @@ func TestGrown(t *testing.T) {
 	for range 60000 {
 		c := part(r, r.Intn(5))
 		p := &probe.Planter{R: r, At: r.Intn(2)}
-		want := p.Trivia()
-		want = append(want, p.Plant(c.n))
-		want = append(want, p.Trivia()...)
+		want := p.PlantRow([]api.Node{c.n})
 		reader := expr.NewReader(p.L)
 		c.read(reader)
 		row, d, ok := reader.Done()

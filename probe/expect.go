@@ -166,3 +166,14 @@ func ExpectPlace(t Test, l []api.Tok, d api.Diag) {
 		t.Fatalf("%v: %v is of no token", l, d)
 	}
 }
+
+// IsGuard says whether a diagnostic's piece ends as a guard does.
+func IsGuard(l []api.Tok, d api.Diag) bool {
+	var kinds []int
+	for _, tok := range Significant(l) {
+		if d.From <= tok.From && tok.To <= d.To {
+			kinds = append(kinds, tok.Kind)
+		}
+	}
+	return len(kinds) > 4 && slices.Equal(kinds[len(kinds)-4:], []int{api.TPeriod, api.TLparen, api.TType, api.TRparen})
+}

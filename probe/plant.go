@@ -83,3 +83,12 @@ func Spoilt(r Choice, l []api.Tok) []api.Tok {
 	}
 	return l
 }
+
+// Apart are tokens of the same kinds, each of which has bytes.
+func Apart(l []api.Tok) []api.Tok {
+	l = slices.Clone(l)
+	for i := range l {
+		l[i].From, l[i].To = 2*i, 2*i+2
+	}
+	return l
+}

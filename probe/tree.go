@@ -2,6 +2,7 @@ package probe
 
 import (
 	"slices"
+	"strconv"
 	"strings"
 
 	"scholiast/api"
@@ -79,6 +80,15 @@ func write(s string, n api.Node, lowest int) string {
 		}
 	}
 	return word + "<" + strings.Join(kids, " ") + ">"
+}
+
+// Shape writes down a tree's kinds.
+func Shape(n api.Node) string {
+	s := strconv.Itoa(n.Kind) + "("
+	for _, kid := range n.Kids {
+		s += Shape(kid)
+	}
+	return s + ")"
 }
 
 // Leaves are the leaves of nodes, from left to right.

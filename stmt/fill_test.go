@@ -3,7 +3,6 @@ package stmt_test
 import (
 	"math/rand"
 	"slices"
-	"strconv"
 	"testing"
 
 	"scholiast/api"
@@ -293,7 +292,7 @@ func TestSpoiled(t *testing.T) {
 		p := &probe.Planter{R: r}
 		p.Plant(probe.Grower{R: r, Blocks: true, Guarded: r.Intn(5) == 0, Bare: true}.Block(r.Intn(4)))
 		moved := probe.Spoilt(r, p.L)
-		l := apart(moved)
+		l := probe.Apart(moved)
 		n, d, ok := stmt.Parse(l)
 		if ok {
 			held++
@@ -303,29 +302,18 @@ func TestSpoiled(t *testing.T) {
 			if !probe.Same(n, api.Node{}) {
 				t.Fatalf("%v: %v beside %v", l, n, d)
 			}
-			if d.Code != api.DSyntax || !isGuard(l, d) {
+			if d.Code != api.DSyntax || !probe.IsGuard(l, d) {
 				probe.ExpectPlace(t, l, d)
 			}
 		}
 		// The tokens' kinds alone count.
-		if m, e, _ := stmt.Parse(moved); shape(m) != shape(n) || e.Code != d.Code {
+		if m, e, _ := stmt.Parse(moved); probe.Shape(m) != probe.Shape(n) || e.Code != d.Code {
 			t.Fatalf("%v: %v, %v; moved %v, %v", l, n, d, m, e)
 		}
 	}
 	if held < 1000 || failed < 1000 {
 		t.Errorf("%d held, %d failed", held, failed)
 	}
-}
-
-// isGuard says whether a diagnostic's piece ends as a guard does.
-func isGuard(l []api.Tok, d api.Diag) bool {
-	var kinds []int
-	for _, tok := range probe.Significant(l) {
-		if d.From <= tok.From && tok.To <= d.To {
-			kinds = append(kinds, tok.Kind)
-		}
-	}
-	return len(kinds) > 4 && slices.Equal(kinds[len(kinds)-4:], []int{api.TPeriod, api.TLparen, api.TType, api.TRparen})
 }
 
 // expectBlock holds Parse's answer of l against P6.11.
@@ -344,22 +332,4 @@ func expectBlock(t *testing.T, l []api.Tok, n api.Node) {
 		row = append(row, leaf(tok.Kind, tok.From, tok.To))
 	}
 	probe.ExpectLaws(t, l, row)
-}
-
-// apart are tokens of the same kinds, each of which has bytes.
-func apart(l []api.Tok) []api.Tok {
-	l = slices.Clone(l)
-	for i := range l {
-		l[i].From, l[i].To = 2*i, 2*i+2
-	}
-	return l
-}
-
-// shape writes down a tree's kinds.
-func shape(n api.Node) string {
-	s := strconv.Itoa(n.Kind) + "("
-	for _, kid := range n.Kids {
-		s += shape(kid)
-	}
-	return s + ")"
 }

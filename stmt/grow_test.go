@@ -47,9 +47,7 @@ func declarations(kind int) procedure {
 // planted is a tree with its places, between trivia.
 func planted(r *rand.Rand, n api.Node) (row []api.Node, l []api.Tok) {
 	p := &probe.Planter{R: r, At: r.Intn(2)}
-	row = p.Trivia()
-	row = append(row, p.Plant(n))
-	row = append(row, p.Trivia()...)
+	row = p.PlantRow([]api.Node{n})
 	return row, p.L
 }
 

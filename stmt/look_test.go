@@ -59,7 +59,7 @@ func TestLook(t *testing.T) {
 	} {
 		found, missed := 0, 0
 		probe.Every(c.texts.alphabet, c.texts.n, func(s string) {
-			l := spelt(c.word, c.texts.begin+s)
+			l := probe.Spelt(c.word, c.texts.begin+s)
 			r := expr.NewReader(l)
 			stmt.Statement(r)
 			_, d, _ := r.Done()

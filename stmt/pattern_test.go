@@ -10,57 +10,7 @@ import (
 	"scholiast/expr"
 	"scholiast/probe"
 	"scholiast/stmt"
-	"scholiast/token"
 )
-
-// letters are what the letters of a text stand for: n and m a name and a number, g a guard behind an operand, b a block, l a slice's brackets, signs and other words as they are written or begin; a is a semicolon that is inserted, and w a word that a test chooses.
-func letters(letter byte, word int) []int {
-	switch letter {
-	case 'n':
-		return []int{api.TIdent}
-	case 'm':
-		return []int{api.TInt}
-	case 'g':
-		return []int{api.TPeriod, api.TLparen, api.TType, api.TRparen}
-	case 'b':
-		return []int{api.TLbrace, api.TRbrace}
-	case 'l':
-		return []int{api.TLbrack, api.TRbrack}
-	case 'a':
-		return []int{api.TAuto}
-	case 'w':
-		return []int{word}
-	case 'r':
-		return []int{api.TRange}
-	case 'e':
-		return []int{api.TElse}
-	case 'c':
-		return []int{api.TCase}
-	case 'd':
-		return []int{api.TDefault}
-	case '.':
-		return []int{api.TColon}
-	case ':':
-		return []int{api.TDefine}
-	case '+':
-		return []int{api.TRemTo}
-	case '^':
-		return []int{api.TDec}
-	}
-	kind, _ := token.Operator(string(letter))
-	return []int{kind}
-}
-
-// spelt are the tokens that a text of letters stands for.
-func spelt(word int, s string) []api.Tok {
-	var l []api.Tok
-	for i := range len(s) {
-		for _, kind := range letters(s[i], word) {
-			l = append(l, api.Tok{Kind: kind, From: len(l), To: len(l) + 1})
-		}
-	}
-	return l
-}
 
 // pattern says which texts of letters are a node of a kind.
 type pattern struct {
@@ -91,7 +41,7 @@ func expectPatterns(t *testing.T, read procedure, word int, texts tried, told fu
 			want = l[i].kind
 			met[i]++
 		}
-		r := expr.NewReader(spelt(word, s))
+		r := expr.NewReader(probe.Spelt(word, s))
 		read(r)
 		row, d, ok := r.Done()
 		got := 0
