@@ -18,6 +18,15 @@ type Test interface {
 // Reads is a text, and the node that it is, as Show writes it down.
 type Reads = [2]string
 
+// Diags makes a list of diagnostics of groups of three numbers: code, from, to.
+func Diags(n ...int) []api.Diag {
+	var l []api.Diag
+	for i := 0; i+2 < len(n); i += 3 {
+		l = append(l, api.Diag{Code: n[i], From: n[i+1], To: n[i+2]})
+	}
+	return l
+}
+
 // Spell writes down the node that a procedure reads of a text, all of it; or tells the diagnostic.
 func Spell(t Test, s string, read func(r *expr.Reader)) (string, api.Diag) {
 	t.Helper()

@@ -6,19 +6,11 @@ import (
 	"testing"
 
 	"scholiast/api"
+	"scholiast/probe"
 	"scholiast/text"
 )
 
 const mark = "\xef\xbb\xbf"
-
-// diags makes a list of diagnostics of groups of three numbers: code, from, to.
-func diags(n ...int) []api.Diag {
-	var l []api.Diag
-	for i := 0; i+2 < len(n); i += 3 {
-		l = append(l, api.Diag{Code: n[i], From: n[i+1], To: n[i+2]})
-	}
-	return l
-}
 
 // TestCheck: P1.1.
 func TestCheck(t *testing.T) {
@@ -31,21 +23,21 @@ func TestCheck(t *testing.T) {
 		{"forms of two, three and four bytes", "\u0080\u07ff\u0800\ud7ff\ue000\uffff\U00010000\U0010ffff", nil},
 		{"the character that stands for a fault", "\ufffd", nil},
 		{"neighbours of the mark", "a\ufefe\uff00", nil},
-		{"example", "a\x00\xff" + mark, diags(api.DNul, 1, 2, api.DUTF8, 2, 3, api.DMark, 3, 6)},
+		{"example", "a\x00\xff" + mark, probe.Diags(api.DNul, 1, 2, api.DUTF8, 2, 3, api.DMark, 3, 6)},
 		{"a mark at the beginning", mark, nil},
-		{"two marks", mark + mark, diags(api.DMark, 3, 6)},
-		{"a mark behind a byte", "a" + mark + "b" + mark, diags(api.DMark, 1, 4, api.DMark, 5, 8)},
-		{"a mark cut short", "\xef\xbb", diags(api.DUTF8, 0, 1, api.DUTF8, 1, 2)},
-		{"a mark behind a wrong byte", "\xef" + mark, diags(api.DUTF8, 0, 1, api.DMark, 1, 4)},
-		{"a zero alone, and zeros", "\x00a\x00\x00", diags(api.DNul, 0, 1, api.DNul, 2, 3, api.DNul, 3, 4)},
-		{"halves, the lowest and the highest", "\xed\xa0\x80\xed\xbf\xbf", diags(api.DUTF8, 0, 1, api.DUTF8, 1, 2, api.DUTF8, 2, 3, api.DUTF8, 3, 4, api.DUTF8, 4, 5, api.DUTF8, 5, 6)},
-		{"a long form of 0", "\xc0\x80", diags(api.DUTF8, 0, 1, api.DUTF8, 1, 2)},
-		{"a long form of 7F", "\xc1\xbf", diags(api.DUTF8, 0, 1, api.DUTF8, 1, 2)},
-		{"a long form of 7FF", "\xe0\x9f\xbf", diags(api.DUTF8, 0, 1, api.DUTF8, 1, 2, api.DUTF8, 2, 3)},
-		{"a long form of FFFF", "\xf0\x8f\xbf\xbf", diags(api.DUTF8, 0, 1, api.DUTF8, 1, 2, api.DUTF8, 2, 3, api.DUTF8, 3, 4)},
-		{"110000", "\xf4\x90\x80\x80", diags(api.DUTF8, 0, 1, api.DUTF8, 1, 2, api.DUTF8, 2, 3, api.DUTF8, 3, 4)},
-		{"bytes that begin nothing", "\x80\xbf\xf5\xfe", diags(api.DUTF8, 0, 1, api.DUTF8, 1, 2, api.DUTF8, 2, 3, api.DUTF8, 3, 4)},
-		{"a form that another character ends", "\xe2\x82a\xc3", diags(api.DUTF8, 0, 1, api.DUTF8, 1, 2, api.DUTF8, 3, 4)},
+		{"two marks", mark + mark, probe.Diags(api.DMark, 3, 6)},
+		{"a mark behind a byte", "a" + mark + "b" + mark, probe.Diags(api.DMark, 1, 4, api.DMark, 5, 8)},
+		{"a mark cut short", "\xef\xbb", probe.Diags(api.DUTF8, 0, 1, api.DUTF8, 1, 2)},
+		{"a mark behind a wrong byte", "\xef" + mark, probe.Diags(api.DUTF8, 0, 1, api.DMark, 1, 4)},
+		{"a zero alone, and zeros", "\x00a\x00\x00", probe.Diags(api.DNul, 0, 1, api.DNul, 2, 3, api.DNul, 3, 4)},
+		{"halves, the lowest and the highest", "\xed\xa0\x80\xed\xbf\xbf", probe.Diags(api.DUTF8, 0, 1, api.DUTF8, 1, 2, api.DUTF8, 2, 3, api.DUTF8, 3, 4, api.DUTF8, 4, 5, api.DUTF8, 5, 6)},
+		{"a long form of 0", "\xc0\x80", probe.Diags(api.DUTF8, 0, 1, api.DUTF8, 1, 2)},
+		{"a long form of 7F", "\xc1\xbf", probe.Diags(api.DUTF8, 0, 1, api.DUTF8, 1, 2)},
+		{"a long form of 7FF", "\xe0\x9f\xbf", probe.Diags(api.DUTF8, 0, 1, api.DUTF8, 1, 2, api.DUTF8, 2, 3)},
+		{"a long form of FFFF", "\xf0\x8f\xbf\xbf", probe.Diags(api.DUTF8, 0, 1, api.DUTF8, 1, 2, api.DUTF8, 2, 3, api.DUTF8, 3, 4)},
+		{"110000", "\xf4\x90\x80\x80", probe.Diags(api.DUTF8, 0, 1, api.DUTF8, 1, 2, api.DUTF8, 2, 3, api.DUTF8, 3, 4)},
+		{"bytes that begin nothing", "\x80\xbf\xf5\xfe", probe.Diags(api.DUTF8, 0, 1, api.DUTF8, 1, 2, api.DUTF8, 2, 3, api.DUTF8, 3, 4)},
+		{"a form that another character ends", "\xe2\x82a\xc3", probe.Diags(api.DUTF8, 0, 1, api.DUTF8, 1, 2, api.DUTF8, 3, 4)},
 	} {
 		if got := text.Check(c.text); !slices.Equal(got, c.want) {
 			t.Errorf("%s: %v, want %v", c.name, got, c.want)
@@ -56,7 +48,7 @@ func TestCheck(t *testing.T) {
 // TestCheckLong: P1.1 is of texts of any length.
 func TestCheckLong(t *testing.T) {
 	s := strings.Repeat("a", 2*api.MaxFile) + "\x00"
-	if got := text.Check(s); !slices.Equal(got, diags(api.DNul, len(s)-1, len(s))) {
+	if got := text.Check(s); !slices.Equal(got, probe.Diags(api.DNul, len(s)-1, len(s))) {
 		t.Error(got)
 	}
 }
@@ -65,7 +57,7 @@ func TestCheckLong(t *testing.T) {
 func TestCheckNew(t *testing.T) {
 	first := text.Check("\x00\xff")
 	first[0], first[1] = api.Diag{}, api.Diag{}
-	if got := text.Check("\x00\xff"); !slices.Equal(got, diags(api.DNul, 0, 1, api.DUTF8, 1, 2)) {
+	if got := text.Check("\x00\xff"); !slices.Equal(got, probe.Diags(api.DNul, 0, 1, api.DUTF8, 1, 2)) {
 		t.Error(got)
 	}
 }
@@ -100,11 +92,11 @@ func told(s string) []api.Diag {
 		n, width := character(s[at:])
 		switch {
 		case n < 0:
-			l = append(l, diags(api.DUTF8, at, at+1)...)
+			l = append(l, probe.Diags(api.DUTF8, at, at+1)...)
 		case n == 0:
-			l = append(l, diags(api.DNul, at, at+1)...)
+			l = append(l, probe.Diags(api.DNul, at, at+1)...)
 		case n == 0xFEFF && at != 0:
-			l = append(l, diags(api.DMark, at, at+3)...)
+			l = append(l, probe.Diags(api.DMark, at, at+3)...)
 		}
 		at += width
 	}
