@@ -5,7 +5,19 @@ import (
 
 	"scholiast/api"
 	"scholiast/green"
+	"scholiast/parts"
 )
+
+// contents are what a file's regions are, in their order.
+func contents(file api.Node) iter.Seq[api.Node] {
+	return func(yield func(api.Node) bool) {
+		for _, kid := range file.Kids {
+			if kid.Kind == api.NRegion && !yield(parts.At(kid, 0)) {
+				return
+			}
+		}
+	}
+}
 
 // declarations are those of all a file's regions, one by one.
 func declarations(s string, file api.Node) iter.Seq[api.Decl] {
@@ -38,7 +50,7 @@ func declared(s string, n api.Node) iter.Seq[api.Decl] {
 
 func constants(s string, group api.Node, yield func(api.Decl) bool) {
 	var like api.Node
-	for i, spec := range parts(group) {
+	for i, spec := range parts.All(group) {
 		if i == 0 || saysMore(spec) {
 			like = spec
 		}
@@ -52,11 +64,11 @@ func constants(s string, group api.Node, yield func(api.Decl) bool) {
 
 // saysMore says whether a spec has a type or values.
 func saysMore(spec api.Node) bool {
-	return part(spec, 1).Kind != api.NNone || part(spec, 2).Kind != api.NNone
+	return parts.At(spec, 1).Kind != api.NNone || parts.At(spec, 2).Kind != api.NNone
 }
 
 func variables(s string, group api.Node, yield func(api.Decl) bool) {
-	for _, spec := range parts(group) {
+	for _, spec := range parts.All(group) {
 		if !yield(api.Decl{Kind: api.OVar, Names: names(s, spec), Node: clone(spec)}) {
 			return
 		}
@@ -66,15 +78,15 @@ func variables(s string, group api.Node, yield func(api.Decl) bool) {
 // names are those that a spec of constants or variables declares.
 func names(s string, spec api.Node) []api.Ident {
 	var l []api.Ident
-	for _, name := range parts(part(spec, 0)) {
+	for _, name := range parts.All(parts.At(spec, 0)) {
 		l = append(l, ident(s, name))
 	}
 	return l
 }
 
 func types(s string, group api.Node, yield func(api.Decl) bool) {
-	for _, spec := range parts(group) {
-		name := []api.Ident{ident(s, part(spec, 0))}
+	for _, spec := range parts.All(group) {
+		name := []api.Ident{ident(s, parts.At(spec, 0))}
 		if !yield(api.Decl{Kind: api.OType, Names: name, Node: clone(spec)}) {
 			return
 		}
@@ -82,35 +94,27 @@ func types(s string, group api.Node, yield func(api.Decl) bool) {
 }
 
 func function(s string, n api.Node) api.Decl {
-	d := api.Decl{Kind: api.OFunc, Names: []api.Ident{ident(s, part(n, 1))}, Node: clone(n)}
-	if params := part(n, 0); params.Kind != api.NNone {
-		d.Recv, d.Ptr = receiver(s, lastPart(part(params, 0)))
+	d := api.Decl{Kind: api.OFunc, Names: []api.Ident{ident(s, parts.At(n, 1))}, Node: clone(n)}
+	if params := parts.At(n, 0); params.Kind != api.NNone {
+		d.Recv, d.Ptr = receiver(s, parts.Last(parts.At(params, 0)))
 	}
 	return d
 }
 
 // receiver tells the name of a receiver's type, and whether it is of pointers to it.
 func receiver(s string, n api.Node) (string, bool) {
-	n = bare(n)
+	n = parts.Bare(n)
 	pointer := n.Kind == api.NStar
 	if pointer {
-		n = bare(part(n, 0))
+		n = parts.Bare(parts.At(n, 0))
 	}
 	if n.Kind == api.NIndex {
-		n = bare(part(n, 0))
+		n = parts.Bare(parts.At(n, 0))
 	}
 	if n.Kind != api.NName {
 		return "?", pointer
 	}
 	return Text(s, n), pointer
-}
-
-// bare is a type without the parentheses around it.
-func bare(n api.Node) api.Node {
-	for n.Kind == api.NParen {
-		n = part(n, 0)
-	}
-	return n
 }
 
 // clone is the same tree in new memory.
